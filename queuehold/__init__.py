@@ -1,0 +1,1 @@
+"""Queuehold: a queue on a disk that may stop."""
