@@ -1,6 +1,6 @@
 """A disk: files of bytes under names, changed step by step until no steps are left."""
 
-from queuehold.bounds import is_bytes, is_number
+from queuehold.bounds import is_bytes, is_number, is_word
 from queuehold.errors import BadName, BadNumber, BadRow, Missing, Stopped, There
 
 NAME_SIGNS = "abcdefghijklmnopqrstuvwxyz0123456789"
@@ -10,10 +10,8 @@ MOST_STEPS = 100000
 
 # The words of the errors show no thing that was handed in: it may be a number too long to be written out.
 def check_name(name):
-    if not isinstance(name, str) or not 1 <= len(name) <= LONGEST_NAME:
-        raise BadName("a name is a text of 1 to 8 signs")
-    if not all([sign in NAME_SIGNS for sign in name]):
-        raise BadName("a name has the signs a to z and 0 to 9 alone")
+    if not is_word(name, NAME_SIGNS, LONGEST_NAME):
+        raise BadName("a name is a text of 1 to 8 signs a to z and 0 to 9")
 
 
 def check_steps(steps):

@@ -1,4 +1,8 @@
-"""Things that several tests hand in."""
+"""Things that several tests hand in, and disks and bytes that they need."""
+
+from queuehold.disk import Disk
+
+BYTES_OF_KINDS = {"put": 1, "out": 2, "done": 3, "from": 4, "part": 5, "deal": 6, "carried": 7, "new": 8}
 
 
 class Stranger:
@@ -51,3 +55,46 @@ def sealed(*behind):
         first = (first + behind[place]) % 256
         second = (second + (place + 1) * behind[place]) % 256
     return (first, second) + behind
+
+
+def bytes_by_the_document(row):
+    kind, number, body = row
+    figures = tuple(number.to_bytes(3, "big"))
+    return sealed(BYTES_OF_KINDS[kind], *figures, len(body), *body)
+
+
+def bytes_of_rows(rows):
+    return sum([bytes_by_the_document(row) for row in rows], ())
+
+
+def no_bodies():
+    return no_bytes() + [(0,) * 61, (255,) * 62, (7,) * 255, (7,) * 256, (1,) * 60 + (256,), (True,) * 3]
+
+
+def no_hands():
+    return no_names() + ["abcdefg", "abcdefgh", "0", "a1", "1a", "abcde0", "s0", "9", "Abc", "abC"]
+
+
+def files_of(disk):
+    return {name: disk.read(name) for name in disk.names()}
+
+
+def disk_with(files, steps):
+    disk = Disk(None)
+    for name, some in files.items():
+        disk.make(name)
+        disk.add(name, some)
+    disk.go_on(steps)
+    return disk
+
+
+def disk_of_rows(segments, steps=None):
+    """A disk with segments told as lists of rows, or as bytes."""
+    files = {}
+    for name, held in segments.items():
+        files[name] = bytes_of_rows(held) if isinstance(held, list) else held
+    return disk_with(files, steps)
+
+
+def copy_of(disk, steps):
+    return disk_with(files_of(disk), steps)

@@ -2,25 +2,12 @@ import unittest
 
 from queuehold.disk import Disk
 from queuehold.errors import BadName, BadNumber, BadRow, Missing, Stopped, There
-from samples import HUGE, no_bytes, no_names, no_numbers
+from samples import HUGE, disk_with, files_of, no_bytes, no_names, no_numbers
 
 
 def all_of(disk):
     files = [(name, disk.read(name), disk.size(name)) for name in disk.names()]
     return (files, disk.steps(), disk.left())
-
-
-def files_of(disk):
-    return {name: disk.read(name) for name in disk.names()}
-
-
-def disk_with(files, steps):
-    disk = Disk(None)
-    for name, some in files.items():
-        disk.make(name)
-        disk.add(name, some)
-    disk.go_on(steps)
-    return disk
 
 
 class DiskCase(unittest.TestCase):

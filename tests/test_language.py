@@ -24,7 +24,8 @@ DUNDER_METHODS = "__init__ __eq__ __repr__ __str__ __len__".split()
 NODES = """Module Expr ImportFrom alias FunctionDef arguments arg ClassDef Assign AugAssign If While For Return Break
 Continue Pass Raise Try ExceptHandler Constant Name Attribute Subscript Slice List Tuple Dict Call keyword Lambda
 BinOp UnaryOp BoolOp Compare IfExp ListComp comprehension JoinedStr FormattedValue Load Store Add Sub Mult FloorDiv
-Mod Pow BitOr BitAnd BitXor LShift RShift Invert USub UAdd Not And Or Eq NotEq Lt LtE Gt GtE Is IsNot In NotIn""".split()
+Mod Pow BitOr BitAnd BitXor LShift RShift Invert USub UAdd Not And Or Eq NotEq Lt LtE Gt GtE Is IsNot In
+NotIn""".split()
 
 WORDS = """type typing typing_extensions enum Enum IntEnum StrEnum Flag IntFlag Generic Protocol ABC ABCMeta namedtuple
 NamedTuple TypedDict TYPE_CHECKING abstractmethod""".split()
@@ -211,6 +212,39 @@ class LanguageTest(unittest.TestCase):
                 for taken in ast.walk(node.type):
                     if isinstance(taken, ast.Name):
                         self.assertNotIn(taken.id, ("Exception", "TypeError", "BaseException"))
+
+    def test_errors_are_made_on_the_spot_l19(self):
+        for name, node in walk_all():
+            if isinstance(node, ast.Raise):
+                self.assertIsInstance(node.exc, ast.Call, (name, node.lineno))
+
+    def test_locals_are_not_called_like_imports_and_classes_l15(self):
+        for path in files():
+            tree = tree_of(path)
+            taken = [one.name for node in tree.body if isinstance(node, ast.ImportFrom) for one in node.names]
+            taken += [node.name for node in tree.body if isinstance(node, ast.ClassDef)]
+            for node in ast.walk(tree):
+                if isinstance(node, ast.arg) or isinstance(node, ast.Name) and isinstance(node.ctx, ast.Store):
+                    self.assertNotIn(names_bound(node)[0], taken, (path.name, node.lineno))
+
+    def test_what_a_top_holds_is_not_changed_l15(self):
+        for path in files():
+            tree = tree_of(path)
+            tops = [node.targets[0].id for node in tree.body if isinstance(node, ast.Assign)]
+            for node in ast.walk(tree):
+                if isinstance(node, (ast.Subscript, ast.Attribute)) and isinstance(node.ctx, ast.Store):
+                    changed = node.value.id if isinstance(node.value, ast.Name) else None
+                    self.assertNotIn(changed, tops, (path.name, node.lineno))
+                if isinstance(node, ast.Return) and isinstance(node.value, ast.Name):
+                    self.assertNotIn(node.value.id, tops, (path.name, node.lineno))
+
+    def test_a_loop_does_not_change_what_it_walks_l23(self):
+        for name, node in walk_all():
+            if isinstance(node, ast.For):
+                walked = ast.unparse(node.iter)
+                for inner in [one for statement in node.body for one in ast.walk(statement)]:
+                    if isinstance(inner, ast.Call) and isinstance(inner.func, ast.Attribute):
+                        self.assertNotEqual(ast.unparse(inner.func.value), walked, (name, inner.lineno))
 
 
 if __name__ == "__main__":

@@ -2,9 +2,7 @@ import unittest
 
 from queuehold.errors import BadRow, Broken
 from queuehold.rows import row_bytes, rows_in
-from samples import HUGE, no_bytes, no_names, no_numbers, sealed
-
-BYTES_OF_KINDS = {"put": 1, "out": 2, "done": 3, "from": 4, "part": 5, "deal": 6, "carried": 7, "new": 8}
+from samples import BYTES_OF_KINDS, HUGE, bytes_by_the_document, no_bytes, no_names, no_numbers, sealed
 
 # Checks worked out by hand, from the words of the document.
 BY_HAND = [
@@ -53,12 +51,6 @@ BAD_BODIES = {
 def good_rows():
     rows = [(kind, number, bodies[0]) for kind, bodies in GOOD_BODIES.items() for number in NUMBERS]
     return rows + [(kind, 70000, body) for kind, bodies in GOOD_BODIES.items() for body in bodies]
-
-
-def bytes_by_the_document(row):
-    kind, number, body = row
-    figures = tuple(number.to_bytes(3, "big"))
-    return sealed(BYTES_OF_KINDS[kind], *figures, len(body), *body)
 
 
 class RowBytesTest(unittest.TestCase):
